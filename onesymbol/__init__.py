@@ -1,0 +1,1 @@
+"""Onesymbol: one canonical symbol for each kind."""
