@@ -1,10 +1,10 @@
-"""Checks whether objects are kinds [3], and enters kinds in a table of rows.
+"""Checks whether objects are kinds [3], integers and identifiers, and enters kinds in a table of rows.
 
 Nothing here calls itself: the kinds that are still to be done stand in a list,
 so that no depth of nesting exceeds the depth of calls that Python allows.
 """
 
-from onesymbol.errors import NoKind
+from onesymbol.errors import NoIdentifier, NoKind
 from onesymbol.letters import BUILTIN_LETTERS, IDENTIFIER_BEGIN, IDENTIFIER_LETTERS
 from onesymbol.letters import LONGEST_IDENTIFIER, WRAPPER_LETTERS
 from onesymbol.rows import NO_PREFIX
@@ -22,6 +22,20 @@ def is_identifier(value):
     if value[0] not in IDENTIFIER_BEGIN:
         return False
     return all([letter in IDENTIFIER_LETTERS for letter in value])
+
+
+def identifier_of(value):
+    """Return an identifier as a plain string; raises NoIdentifier."""
+    if not is_identifier(value):
+        raise NoIdentifier("an identifier is a string of 1 to 30 letters, digits and underscores")
+    return string_of(value)
+
+
+def identifiers_of(value):
+    """Return the identifiers of a list, as a new list; raises NoIdentifier."""
+    if not isinstance(value, list):
+        raise NoIdentifier("identifiers stand in a list")
+    return [identifier_of(item) for item in value]
 
 
 def digits_of(value):

@@ -50,9 +50,23 @@ def text_of(rows, number):
     return "".join(found)
 
 
+def inner(row):
+    """Return the numbers of the rows in a row, in the order of the plain text."""
+    return [piece for piece in pieces(row) if not isinstance(piece, str)]
+
+
+def summed(rows, own):
+    """Return for each row the sum of what it and all rows that are written in its plain text have of their own.
+
+    A row that is written there several times counts as often.
+    """
+    found = []
+    for number in range(len(own)):
+        found.append(own[number] + sum([found[one] for one in inner(rows.row(number))]))
+    return found
+
+
 def lengths(rows):
     """Return the lengths of the plain texts of all rows, without writing a text."""
-    found = []
-    for row in rows.table:
-        found.append(sum([len(piece) if isinstance(piece, str) else found[piece] for piece in pieces(row)]))
-    return found
+    own = [sum([len(piece) for piece in pieces(row) if isinstance(piece, str)]) for row in rows.table]
+    return summed(rows, own)

@@ -7,7 +7,7 @@ Nothing here calls itself: the kinds that are begun stand in a list of frames,
 so that no depth of nesting exceeds the depth of calls that Python allows.
 """
 
-from onesymbol.errors import NoSpelling
+from onesymbol.errors import NoArguments, NoSpelling
 from onesymbol.letters import BUILTIN_WORDS, DIGITS, DIGITS_ABOVE_ZERO, IDENTIFIER_BEGIN
 from onesymbol.letters import IDENTIFIER_LETTERS, KIND_LETTERS, LONGEST_IDENTIFIER, WRAPPER_WORDS
 from onesymbol.rows import NO_PREFIX, PATH_WORDS
@@ -19,6 +19,13 @@ def number_of_spelling(rows, spelling):
     number = reader.kind()
     reader.end()
     return number
+
+
+def numbers_of_list(rows, spellings):
+    """Enter the kinds of a list of spellings and return their numbers; raises NoArguments, then NoSpelling."""
+    if not isinstance(spellings, list):
+        raise NoArguments("the arguments are a list of spellings")
+    return [number_of_spelling(rows, spelling) for spelling in spellings]
 
 
 def numbers_of_declaration(rows, spelling):

@@ -26,35 +26,41 @@ def declaration_symbol(path, function):
 
 def symbol_of_row(rows, number):
     """Return the symbol of the kind that has this number."""
-    return written(rows, [("kind", number)])
+    return written(rows, [("kind", number)])[0]
 
 
 def symbol_of_declaration(rows, path_number, function_number):
     """Return the symbol of the declaration of these two kinds."""
-    return written(rows, [("text", "Q"), ("kind", path_number), ("kind", function_number)])
+    return written(rows, [("text", "Q"), ("kind", path_number), ("kind", function_number)])[0]
 
 
 def written(rows, steps):
-    """Return the text that the steps write, with one numbering of parts for all of them."""
+    """Return the text that the steps write, with one numbering of parts for all of them, and the parts.
+
+    The parts are a dict, in the order in which they are completed: for each the
+    number that it gets, and the length of the text up to where it is completed.
+    """
     todo = steps[::-1]
     done = {}
     found = []
+    size = 0
     while todo:
         step, value = todo.pop()
         if step == "text":
             found.append(value)
+            size += len(value)
         elif step == "done":
-            done[value] = len(done)
+            done[value] = (len(done), size)
         elif value in done:
-            found.append(back_reference(done, value))
+            todo.append(("text", back_reference(done, value)))
         else:
             todo.extend(kind_steps(rows, done, value)[::-1])
-    return "".join(found)
+    return "".join(found), done
 
 
 def back_reference(done, number):
     """Return the back reference to a part that is done."""
-    return "Z" + str(len(done) - done[number]) + "_"
+    return "Z" + str(len(done) - done[number][0]) + "_"
 
 
 def kind_steps(rows, done, number):

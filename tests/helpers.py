@@ -27,6 +27,8 @@ class Rude:
     __str__ = __repr__ = __int__ = __index__ = refuse
 
 
-# Objects that are neither a kind nor a spelling.
-STRANGE = [None, True, False, 1.5, -1, -10 ** 99, b"i", b"", [], ["int"], {}, {"int": 1}, set(), frozenset(),
+IDENTIFIERS = ["int"]
+
+# Objects that are neither a kind nor a spelling, nor an index, nor (but for IDENTIFIERS) identifiers.
+STRANGE = [None, True, False, 1.5, -1, -10 ** 99, b"i", b"", [], IDENTIFIERS, {}, {"int": 1}, set(), frozenset(),
            object(), Rude(), len, int, lambda: 1, (), ((),), [("int",)], bytearray(b"i"), ..., 2j, range(3)]

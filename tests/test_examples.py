@@ -1,9 +1,13 @@
-"""Every example of the document for what has landed."""
+"""Every example of the document, those in its points and those at its end."""
 
 import unittest
 
+from onesymbol.changes import match, rename, unify
 from onesymbol.kinds import plain
+from onesymbol.parts import occurrences, parts
 from onesymbol.reading import canonical, is_symbol, read, read_declaration
+from onesymbol.table import Table
+from onesymbol.texts import first_difference, length, order
 from onesymbol.writing import symbol
 from tests.helpers import A, AB, at_of
 
@@ -36,6 +40,34 @@ class ExamplesTest(unittest.TestCase):
 
     def test_read_declaration(self):
         self.assertEqual(read_declaration("QN1aIFEvEEZ2_"), ("N1aIFEvEE", "FEv"))
+
+    def test_parts(self):
+        self.assertEqual(parts("N1a1bIiEE"), ["N1aE", "N1a1bE", "N1a1bIiEE"])
+
+    def test_occurrences(self):
+        self.assertEqual([occurrences("N1a1bE", "N1aE"), occurrences("FiiEv", "i")], [0, 2])
+
+    def test_texts(self):
+        self.assertEqual(length("FiiEv"), 34)
+        self.assertEqual([first_difference("N1aE", "N1a1bE"), order("N1aE", "N1a1bE"), first_difference("i", "i")], [3, -1, None])
+
+    def test_rename(self):
+        renamed = rename("N1aIZ1_E1cE", ["a"], ["a", "b"])
+        self.assertEqual(renamed, "N1a1bIZ1_E1cE")
+        self.assertEqual(plain(read(renamed)), "::a::b<::a::b>::c")
+
+    def test_match(self):
+        self.assertEqual(match("q0_", "Pq0_"), ["Pq0_"])
+
+    def test_unify(self):
+        self.assertEqual([unify("FPq0_Eq1_", "Fq2_Ei"), unify("q5_", "q5_"), unify("Pq0_", "q0_")], ["FPq0_Ei", "q0_", None])
+
+    def test_table(self):
+        book = Table()
+        book.add("QN1fEFiEv")
+        book.add("QN1fEFq0_Ev")
+        self.assertEqual([book.resolve("N1fE", ["i"]), book.resolve("N1fE", ["b"]), book.resolve("N1fE", [])],
+                         [("one", "FiEv", []), ("one", "Fq0_Ev", ["b"]), ("none",)])
 
 
 if __name__ == "__main__":

@@ -5,16 +5,29 @@ import builtins
 import importlib
 import inspect
 import pathlib
+import re
 import unittest
 
 FOLDER = pathlib.Path(__file__).resolve().parent.parent / "onesymbol"
 
-# What has landed, file by file.
+# The functions and the classes of the document, file by file.
 INTERFACE = {
     "kinds": {"plain": ["kind"]},
     "writing": {"symbol": ["kind"], "declaration_symbol": ["path", "function"]},
     "reading": {"read": ["spelling"], "is_symbol": ["text"], "canonical": ["spelling"], "read_declaration": ["spelling"]},
+    "parts": {"parts": ["spelling"], "occurrences": ["spelling", "other"], "identifier_many": ["spelling", "identifier"]},
+    "texts": {"length": ["spelling"], "character": ["spelling", "index"], "section": ["spelling", "begin", "end"],
+              "first_difference": ["one", "other"], "order": ["one", "other"]},
+    "changes": {"rename": ["spelling", "old", "new"], "substitute": ["spelling", "arguments"], "match": ["pattern", "spelling"],
+                "unify": ["one", "other"]},
+    "table": {"Table": []},
 }
+METHODS_OF_TABLE = ["add", "declarations", "members", "functions", "resolve"]
+
+# Names that stand nowhere, and words that no file has outside of comments and docstrings.
+BARRED_NAMES = ["register", "mro", "elements", "open", "input", "law", "version_info", "with_traceback", "add_note"]
+BARRED_WORDS = ["type", "typing", "enum", "Enum", "Flag", "Generic", "Protocol", "ABC", "namedtuple", "dataclass", "overload",
+                "contextmanager", "abstractmethod"]
 
 BUILTINS = ["len", "range", "enumerate", "zip", "min", "max", "sum", "abs", "sorted", "reversed", "int", "str", "bool",
             "list", "tuple", "dict", "set", "isinstance", "ord", "repr", "any", "all", "divmod", "super", "ValueError"]
@@ -39,10 +52,15 @@ class InterfaceTest(unittest.TestCase):
         for name, functions in INTERFACE.items():
             module = importlib.import_module(f"onesymbol.{name}")
             tree = ast.parse((FOLDER / f"{name}.py").read_text("ascii"))
-            defined = [node.name for node in tree.body if isinstance(node, ast.FunctionDef)]
+            defined = [node.name for node in tree.body if isinstance(node, (ast.FunctionDef, ast.ClassDef))]
             for function, parameters in functions.items():
                 self.assertIn(function, defined)
                 self.assertEqual(list(inspect.signature(getattr(module, function)).parameters), parameters)
+
+    def test_methods_stand_in_the_class_itself(self):
+        tree = ast.parse((FOLDER / "table.py").read_text("ascii"))
+        found, = [node for node in tree.body if isinstance(node, ast.ClassDef) and node.name == "Table"]
+        self.assertLessEqual(set(METHODS_OF_TABLE), {node.name for node in found.body if isinstance(node, ast.FunctionDef)})
 
     def test_errors_are_defined_in_their_file(self):
         tree = ast.parse((FOLDER / "errors.py").read_text("ascii"))
@@ -88,6 +106,35 @@ class RulesTest(unittest.TestCase):
             self.assertTrue(free, f"these import each other: {needs}")
             for name in free:
                 del needs[name]
+
+    def test_barred_names_and_words(self):
+        for name, tree in trees():
+            for node in ast.walk(tree):
+                names = [getattr(node, field, None) for field in ("id", "attr", "arg", "name")]
+                self.assertFalse(set(BARRED_NAMES + BARRED_WORDS) & {one for one in names if isinstance(one, str)}, name)
+                docstring = isinstance(node, ast.Expr) and isinstance(node.value, ast.Constant)
+                for child in ast.iter_child_nodes(node):
+                    if isinstance(child, ast.Constant) and isinstance(child.value, str) and not docstring:
+                        self.assertNotIn("%", child.value, name)
+                        self.assertFalse(set(BARRED_WORDS) & set(re.findall("[A-Za-z_]+", child.value)), name)
+
+    def test_names_of_classes_and_imports_mean_nothing_else(self):
+        for name, tree in trees():
+            taken = {alias.name for node in tree.body if isinstance(node, ast.ImportFrom) for alias in node.names}
+            taken |= {node.name for node in tree.body if isinstance(node, ast.ClassDef)}
+            for node in ast.walk(tree):
+                if isinstance(node, ast.Name) and isinstance(node.ctx, ast.Store):
+                    self.assertNotIn(node.id, taken, name)
+                if isinstance(node, ast.arg):
+                    self.assertNotIn(node.arg, taken, name)
+
+    def test_no_method_and_attribute_of_one_name(self):
+        for name, tree in trees():
+            for found in [node for node in tree.body if isinstance(node, ast.ClassDef)]:
+                methods = {node.name for node in found.body if isinstance(node, ast.FunctionDef)}
+                attributes = {node.attr for node in ast.walk(found) if isinstance(node, ast.Attribute)
+                              and isinstance(node.ctx, ast.Store)}
+                self.assertFalse(methods & attributes, name)
 
     def test_only_plain_statements_and_names(self):
         for name, tree in trees():
